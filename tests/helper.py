@@ -1,0 +1,158 @@
+"""What several tests need: odd things, changed things, webs, and answers found by going through all parts."""
+
+import random
+from fractions import Fraction
+from itertools import combinations
+
+from weblayers.errors import (
+    NoArrows, NoCall, NoKept, NoLaying, NoMeasure, NoNumber, NoPart, NoRoad, NoSize, NoText, NoThread, NoWeb, WebError,
+)
+
+REFUSALS = (
+    NoWeb, NoPart, NoLaying, NoMeasure, NoRoad, NoSize, NoArrows, NoThread, NoNumber, NoText, NoCall, NoKept,
+)
+
+
+class Touchy:
+    """A thing that can't be compared, measured, counted out or asked for its truth."""
+
+    def fail(self, *told):
+        raise RuntimeError("touched")
+
+    __eq__ = __ne__ = __lt__ = __le__ = __gt__ = __ge__ = __len__ = __iter__ = __bool__ = __getitem__ = fail
+    __contains__ = __hash__ = __index__ = __int__ = __add__ = __radd__ = __sub__ = __rsub__ = fail
+
+
+def nested(deep, make):
+    thing = make([])
+    for turn in range(deep - 1):
+        thing = make([thing])
+    return thing
+
+
+def odd_things():
+    """Things of many kinds, none of them a web, a part, a laying or a number."""
+    return [
+        None, True, False, -1, 10 ** 40, -10 ** 40, "", "a", "web", "0", "((1,), ())", b"", b"\x00\x01",
+        [], {}, set(), frozenset(), frozenset([0]), {0}, [0], [0, 1], [[1], []], {0: 1}, {"costs": (1,), "ties": ()},
+        range(1), range(3), iter((0,)), (place for place in (0,)), object(), Touchy(), Touchy, len, int, lambda: 0,
+        Fraction(1, 2), 1j, Ellipsis, NotImplemented,
+        (None,), (True,), (False,), ("0",), (b"",), ([],), ({},), (Touchy(),), (None, None), (True, True),
+        ([], []), ({}, {}), ((), ()), ((), (), ()), ((((),),),), (Touchy(), Touchy()),
+        nested(10, tuple), nested(10, list), {0: {0: {0: {0: {0: [(((),),)]}}}}},
+    ]
+
+
+def changed(thing, put_in):
+    """The thing with one piece, at any depth, exchanged, left out or added."""
+    for other in put_in:
+        yield other
+    if isinstance(thing, tuple):
+        yield list(thing)
+        for at, piece in enumerate(thing):
+            yield thing[:at] + thing[at + 1:]
+            yield thing[:at] + (piece, piece) + thing[at + 1:]
+            for inner in changed(piece, put_in):
+                yield thing[:at] + (inner,) + thing[at + 1:]
+        for other in put_in:
+            yield thing + (other,)
+    elif isinstance(thing, int):
+        yield thing + 1
+        yield thing - 1
+        yield str(thing)
+        yield -thing
+
+
+def plain_whole(thing):
+    return type(thing) is int
+
+
+def plain_places(thing, many):
+    if type(thing) is not tuple or thing == () or not all(map(plain_whole, thing)):
+        return False
+    return list(thing) == sorted(set(thing)) and set(thing) <= set(range(many))
+
+
+def plain_web(thing):
+    """What a web is, written a second time."""
+    if type(thing) is not tuple or len(thing) != 2 or type(thing[0]) is not tuple or type(thing[1]) is not tuple:
+        return False
+    costs, ties = thing
+    if len(costs) not in range(1, 13) or len(ties) not in range(31):
+        return False
+    if not all(plain_whole(one) and one in range(1, 101) for one in costs):
+        return False
+    for tie in ties:
+        if type(tie) is not tuple or len(tie) != 2 or not plain_places(tie[0], len(costs)) or len(tie[0]) > 4:
+            return False
+        if not plain_whole(tie[1]) or tie[1] not in range(1, 10 ** 6 + 1):
+            return False
+    return list(ties) == sorted(ties) and len(set(tie[0] for tie in ties)) == len(ties)
+
+
+def all_parts(many):
+    return [part for size in range(1, many + 1) for part in combinations(range(many), size)]
+
+
+def number(fraction):
+    fraction = Fraction(fraction)
+    return (fraction.numerator, fraction.denominator)
+
+
+def some_web(chance, many, most_ties, most_cost=100, most_weight=10 ** 6, sizes=(1, 2, 3, 4)):
+    """A web of so many places, made by a random.Random."""
+    sets = [part for size in sizes for part in combinations(range(many), size)]
+    chosen = chance.sample(sets, min(len(sets), chance.randint(0, most_ties)))
+    ties = tuple(sorted((places, chance.randint(1, most_weight)) for places in chosen))
+    return (tuple(chance.randint(1, most_cost) for place in range(many)), ties)
+
+
+def great_web(chance, sizes=(1, 2, 3, 4)):
+    """Twelve places and thirty ties."""
+    sets = [part for size in sizes for part in combinations(range(12), size)]
+    ties = tuple(sorted((places, chance.randint(1, 10 ** 6)) for places in chance.sample(sets, 30)))
+    return (tuple(chance.randint(1, 100) for place in range(12)), ties)
+
+
+def rows():
+    """Long rows of places, each tied to the next."""
+    near = [(at, at + 1) for at in range(11)]
+    yield ((1,) * 12, tuple((places, 1) for places in near))
+    yield ((1,) * 12, tuple((places, 10 ** 6 - at) for at, places in enumerate(near)))
+    yield (tuple(range(1, 13)), tuple((places, 5) for places in near))
+    yield ((1,) * 12, (((0,), 10 ** 6),) + tuple((places, 10 ** 6) for places in near))
+    yield ((100,) * 11 + (1,), tuple(sorted([((11,), 1)] + [(places, 10 ** 6) for places in near])))
+    threes = [(at, at + 1, at + 2) for at in range(10)]
+    yield ((7,) * 12, tuple(sorted([(places, 999983) for places in near] + [(places, 1) for places in threes])))
+    falling = [(at, at + 1, at + 2, at + 3) for at in range(9)]
+    yield ((3,) * 12, tuple((places, 10 ** (at % 7)) for at, places in enumerate(falling)))
+
+
+def several_webs():
+    """Small webs of many kinds, the same ones each time."""
+    chance = random.Random(20)
+    yield ((1,), ())
+    yield ((5, 1, 7), ())
+    yield ((100,), (((0,), 10 ** 6),))
+    for many in (1, 2, 3, 4, 5):
+        for turn in range(25):
+            yield some_web(chance, many, 8, most_cost=1, most_weight=2)
+            yield some_web(chance, many, 12, most_cost=4, most_weight=6)
+            yield some_web(chance, many, 12)
+
+
+def refusal_of(ask, *told):
+    """The refusal with which the call is answered, None where it is answered otherwise."""
+    try:
+        ask(*told)
+    except WebError as refusal:
+        return refusal
+    return None
+
+
+def check_refused(test, kind, ask, *told):
+    """The call is refused with this one of the refusals and none of the others."""
+    refusal = refusal_of(ask, *told)
+    test.assertEqual([one for one in REFUSALS if isinstance(refusal, one)], [kind])
+    test.assertIsInstance(refusal, WebError)
+    test.assertIsInstance(refusal, ValueError)

@@ -1,0 +1,1 @@
+"""The densest part of a web, and all its layers."""
