@@ -2,7 +2,7 @@
 
 import random
 from fractions import Fraction
-from itertools import combinations
+from itertools import combinations, product
 
 from weblayers.errors import (
     NoArrows, NoCall, NoKept, NoLaying, NoMeasure, NoNumber, NoPart, NoRoad, NoSize, NoText, NoThread, NoWeb, WebError,
@@ -156,3 +156,131 @@ def check_refused(test, kind, ask, *told):
     test.assertEqual([one for one in REFUSALS if isinstance(refusal, one)], [kind])
     test.assertIsInstance(refusal, WebError)
     test.assertIsInstance(refusal, ValueError)
+
+
+def plain_laying(web, thing):
+    """What a laying is, written a second time."""
+    if type(thing) is not tuple or len(thing) != len(web[1]):
+        return False
+    for (places, weight), amounts in zip(web[1], thing):
+        if type(amounts) is not tuple or len(amounts) != len(places):
+            return False
+        for one in amounts:
+            if type(one) is not tuple or len(one) != 2 or not all(map(plain_whole, one)) or one[0] < 0 or one[1] < 1:
+                return False
+            if number(Fraction(*one)) != one:
+                return False
+        if sum(Fraction(*one) for one in amounts) != weight:
+            return False
+    return True
+
+
+def some_laying(chance, web, bottoms=(1, 2, 3, 7, 12)):
+    """A laying of the web, made by a random.Random."""
+    laying = []
+    for places, weight in web[1]:
+        bottom = chance.choice(bottoms)
+        cuts = sorted(chance.randint(0, weight * bottom) for place in places[1:])
+        amounts = [high - low for low, high in zip([0] + cuts, cuts + [weight * bottom])]
+        laying.append(tuple(number(Fraction(amount, bottom)) for amount in amounts))
+    return tuple(laying)
+
+
+def plain_heights(web, laying):
+    """Heights as fractions, place by place."""
+    return [
+        sum(
+            (Fraction(*amounts[tie[0].index(place)]) for tie, amounts in zip(web[1], laying) if place in tie[0]),
+            Fraction(0),
+        ) / price
+        for place, price in enumerate(web[0])
+    ]
+
+
+def plain_level(web, laying):
+    """What level is, written a second time."""
+    high = plain_heights(web, laying)
+    return all(
+        amount == (0, 1) or high[place] == min(high[other] for other in places)
+        for (places, weight), amounts in zip(web[1], laying)
+        for place, amount in zip(places, amounts)
+    )
+
+
+class AllParts:
+    """All sets of places of a web, as bits, with their weights and costs."""
+
+    def __init__(self, web):
+        self.many = len(web[0])
+        self.whole = (1 << self.many) - 1
+        self.weights = [0] * (self.whole + 1)
+        self.costs = [0] * (self.whole + 1)
+        for places, weight in web[1]:
+            self.weights[sum(1 << place for place in places)] += weight
+        for place in range(self.many):
+            for bits in range(self.whole + 1):
+                if bits >> place & 1:
+                    self.weights[bits] += self.weights[bits ^ 1 << place]
+                    self.costs[bits] += web[0][place]
+
+    def part(self, bits):
+        return tuple(place for place in range(self.many) if bits >> place & 1)
+
+    def best(self, done=0):
+        """The most weight for its cost that comes to the set, and all sets of other places with which it does."""
+        top, bottom, sets = -1, 1, []
+        bits = left = self.whole ^ done
+        while bits:
+            comes, dear = self.weights[done | bits] - self.weights[done], self.costs[bits]
+            if comes * bottom > top * dear:
+                top, bottom, sets = comes, dear, []
+            if comes * bottom == top * dear:
+                sets.append(bits)
+            bits = bits - 1 & left
+        return number(Fraction(top, bottom)), sets
+
+    def greatest(self, sets):
+        """The one that has all of the others within."""
+        bits = max(sets, key=lambda one: bin(one).count("1"))
+        assert all(one & bits == one for one in sets)
+        return bits
+
+    def densest(self):
+        return self.part(self.greatest(self.best()[1]))
+
+    def least_densest(self):
+        sets = self.best()[1]
+        least = [one for one in sets if not any(other & one == other and other != one for other in sets)]
+        return tuple(sorted(self.part(one) for one in least))
+
+    def layers(self):
+        told, done = [], 0
+        while done != self.whole:
+            height, sets = self.best(done)
+            bits = self.greatest(sets)
+            told.append((self.part(bits), height))
+            done |= bits
+        return tuple(told)
+
+
+def tiny_webs():
+    """All webs of up to three places with every choice of ties of weights 1 and 2, costs alike and unlike."""
+    for costs, heavies in (((3,), (0, 1, 2)), ((1, 1), (0, 1, 2)), ((2, 3), (0, 1, 2)), ((1, 1, 1), (0, 1)), ((1, 2, 3), (0, 1, 3))):
+        sets = sorted(all_parts(len(costs)))
+        for weights in product(heavies, repeat=len(sets)):
+            yield (costs, tuple((places, weight) for places, weight in zip(sets, weights) if weight))
+
+
+def great_webs():
+    """Webs of twelve places, with ties of many kinds, and long rows."""
+    chance = random.Random(12)
+    for sizes in ((1, 2, 3, 4), (2,), (3,), (4,), (1, 2), (1, 4), (2, 3)):
+        for turn in range(3):
+            yield great_web(chance, sizes)
+    pairs = list(combinations(range(12), 2))[:30]
+    yield ((100,) * 12, tuple((places, 10 ** 6) for places in pairs))
+    yield ((1,) * 12, tuple((places, 10 ** 6) for places in pairs))
+    yield (tuple(range(89, 101)), tuple((places, 2 ** (at % 20)) for at, places in enumerate(pairs)))
+    yield ((1,) * 12, ())
+    for web in rows():
+        yield web
