@@ -1,6 +1,8 @@
 """What several tests need: odd things, changed things, webs, and answers found by going through all parts."""
 
+import copy
 import random
+import sys
 from fractions import Fraction
 from itertools import combinations, product
 
@@ -158,6 +160,42 @@ def check_refused(test, kind, ask, *told):
     test.assertIsInstance(refusal, ValueError)
 
 
+def pieces(thing):
+    yield thing
+    if isinstance(thing, tuple):
+        for one in thing:
+            yield from pieces(one)
+
+
+def check_steady(test, ask, *told):
+    """Asked again the answer is the same, of tuples and whole numbers alone, and nothing handed in is changed."""
+    kept = copy.deepcopy(told)
+    first = ask(*told)
+    first_kept = copy.deepcopy(first)
+    for turn in range(3):
+        test.assertEqual(ask(*copy.deepcopy(kept)), first_kept)
+    test.assertEqual((ask(*told), first, told), (first_kept, first_kept, kept))
+    test.assertLessEqual({type(one) for one in pieces(first)}, {tuple, int})
+
+
+def lines_run(ask, *told):
+    """How many lines of the program are run."""
+    many = 0
+
+    def trace(frame, event, told):
+        nonlocal many
+        many += event == "line"
+        return trace
+
+    ahead = sys.gettrace()
+    sys.settrace(trace)
+    try:
+        ask(*told)
+    finally:
+        sys.settrace(ahead)
+    return many
+
+
 def plain_laying(web, thing):
     """What a laying is, written a second time."""
     if type(thing) is not tuple or len(thing) != len(web[1]):
@@ -204,6 +242,26 @@ def plain_level(web, laying):
         amount == (0, 1) or high[place] == min(high[other] for other in places)
         for (places, weight), amounts in zip(web[1], laying)
         for place, amount in zip(places, amounts)
+    )
+
+
+def one_sided_layings(web):
+    """Each tie on its first place alone, and on its last one alone."""
+    for at in (0, -1):
+        yield tuple(
+            tuple((heavy, 1) if place == places[at] else (0, 1) for place in places) for places, heavy in web[1]
+        )
+
+
+def some_measure(chance, most_top=40, most_bottom=6):
+    """A measure, made by a random.Random."""
+    return tuple(
+        (
+            chance.choice(("above", "below")),
+            number(Fraction(chance.randint(0, most_top), chance.randint(1, most_bottom))),
+            number(Fraction(chance.randint(1, most_top), chance.randint(1, most_bottom))),
+        )
+        for part in range(chance.randint(1, 6))
     )
 
 

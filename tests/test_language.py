@@ -97,6 +97,11 @@ class Language(unittest.TestCase):
                         if isinstance(sign, (ast.Is, ast.IsNot)):
                             self.assertIsInstance(other, ast.Constant, path)
 
+    def test_one_lambda_a_line(self):
+        for path, tree in trees():
+            lines = [one.lineno for one in ast.walk(tree) if isinstance(one, ast.Lambda)]
+            self.assertEqual(len(lines), len(set(lines)), path)
+
     def test_module_level(self):
         plain = (ast.ImportFrom, ast.FunctionDef, ast.ClassDef, ast.Assign)
         for path, tree in trees():

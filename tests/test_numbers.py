@@ -3,7 +3,10 @@ import unittest
 from fractions import Fraction
 
 from tests.helper import number, odd_things
-from weblayers.numbers import common_divisor, is_amount, is_less, is_number, is_whole, lowest, parted, total
+from weblayers.numbers import (
+    common_bottom, common_divisor, difference, in_units, is_above_nothing, is_amount, is_less, is_number, is_whole, lowest,
+    parted, product, total,
+)
 
 GREAT = 2 ** 4000 * 3 ** 500
 
@@ -64,6 +67,22 @@ class Numbers(unittest.TestCase):
         for one in parts:
             for other in parts:
                 self.assertIs(is_less(number(one), number(other)), one < other)
+
+    def test_differences_and_products(self):
+        parts = [Fraction(top, bottom) for top in range(-5, 6) for bottom in range(1, 6)]
+        for one in parts:
+            for other in parts:
+                self.assertEqual(difference(number(one), number(other)), number(one - other))
+                self.assertEqual(product(number(one), number(other)), number(one * other))
+
+    def test_numbers_above_0(self):
+        for thing, told in (((0, 1), False), ((1, 3), True), ((-1, 3), False), ((2, 2), False), (1, False), (True, False)):
+            self.assertIs(is_above_nothing(thing), told)
+
+    def test_one_unit_for_all(self):
+        self.assertEqual(common_bottom([]), 1)
+        self.assertEqual(common_bottom([(1, 4), (5, 6), (7, 1)]), 12)
+        self.assertEqual([in_units(one, 12) for one in ((1, 4), (5, 6), (7, 1), (0, 1))], [3, 10, 84, 0])
 
 
 if __name__ == "__main__":

@@ -2,43 +2,18 @@
 
 import copy
 import random
-import sys
 import unittest
 
-from tests.helper import changed, check_refused, great_web, great_webs, odd_things, plain_web
+from tests.helper import changed, check_refused, great_web, great_webs, lines_run, odd_things, pieces, plain_web
 from weblayers.densest import bearing, densest, least_densest
 from weblayers.errors import NoWeb
 from weblayers.layers import layers, level_heights, level_laying
+from weblayers.strips import stripped
 
-ASKS = (densest, least_densest, bearing, layers, level_heights, level_laying)
+ASKS = (densest, least_densest, bearing, layers, level_heights, level_laying, stripped)
 WEB = ((1, 1, 2), (((0,), 2), ((0, 1), 3), ((0, 1, 2), 1)))
 # A web of twelve places has 4095 parts, and looking at thirty ties for each takes more than this.
 MOST_LINES = 40000
-
-
-def lines_run(ask, web):
-    """How many lines of the program are run."""
-    many = 0
-
-    def trace(frame, event, told):
-        nonlocal many
-        many += event == "line"
-        return trace
-
-    ahead = sys.gettrace()
-    sys.settrace(trace)
-    try:
-        ask(web)
-    finally:
-        sys.settrace(ahead)
-    return many
-
-
-def pieces(thing):
-    yield thing
-    if isinstance(thing, tuple):
-        for one in thing:
-            yield from pieces(one)
 
 
 class WholeWebs(unittest.TestCase):

@@ -4,6 +4,8 @@ Weight goes to where room is over shortest chains of ties, each time as much as 
 the work hangs on how many places and ties there are, not on how great the weights are.
 """
 
+from weblayers.chains import steps_to, trace
+
 
 class Filling:
     """As much weight of ties, pairs (places, weight), as their places have room for."""
@@ -28,26 +30,16 @@ class Filling:
             self.push(tie, steps_to(came, end), end)
 
     def search(self, starts):
-        """Where weight may go on to from these places, up to the nearest place that has room.
+        """Where weight may go on to from these places, up to the nearest place that has room."""
+        return trace(
+            starts,
+            lambda place: self.onward(place),
+            lambda place: self.rooms[place] > 0,
+        )
 
-        Told are a dict that says for each place met by which tie and from where, None of the
-        starts, and the place that has room, None where there is none.
-        """
-        came = {place: None for place in starts}
-        queue = list(starts)
-        at = 0
-        while at < len(queue):
-            place = queue[at]
-            at += 1
-            if self.rooms[place]:
-                return came, place
-            for tie in self.touching[place]:
-                if self.laid[tie][place]:
-                    fresh = [other for other in self.tied[tie] if other not in came]
-                    for other in fresh:
-                        came[other] = (tie, place)
-                    queue.extend(fresh)
-        return came, None
+    def onward(self, place):
+        """The pairs (tie, place) by which weight that lies on this place may leave it."""
+        return [(tie, other) for tie in self.touching[place] if self.laid[tie][place] for other in self.tied[tie]]
 
     def push(self, tie, steps, end):
         """Lay as much of a waiting tie as the steps take, which end at a place with room."""
@@ -68,6 +60,11 @@ class Filling:
         came, end = self.search(starts)
         return sorted(came)
 
+    def has_way(self, place):
+        """Whether weight on this place, were it there, could go on to where room is."""
+        came, end = self.search([place])
+        return end is not None
+
     def overfull(self):
         """The places to which weight still waiting may go: for them there are too many ties."""
         starts = {}
@@ -76,14 +73,3 @@ class Filling:
                 for place in places:
                     starts[place] = True
         return self.reached(list(starts))
-
-
-def steps_to(came, end):
-    """The steps (tie, from, to) by which a search came to this place."""
-    steps = []
-    place = end
-    while came[place] is not None:
-        tie, start = came[place]
-        steps.append((tie, start, place))
-        place = start
-    return steps[::-1]

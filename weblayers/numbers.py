@@ -38,6 +38,11 @@ def is_amount(thing):
     return is_number(thing) and thing[0] >= 0
 
 
+def is_above_nothing(thing):
+    """Whether a thing of any kind is a number above 0."""
+    return is_amount(thing) and thing[0] > 0
+
+
 def is_less(one, other):
     return one[0] * other[1] < other[0] * one[1]
 
@@ -54,3 +59,25 @@ def total(amounts):
 def parted(one, divisor):
     """A number parted by a whole number from 1 on."""
     return lowest(one[0], one[1] * divisor)
+
+
+def difference(one, other):
+    """What the first number is above the second one, below 0 where it is less."""
+    return lowest(one[0] * other[1] - other[0] * one[1], one[1] * other[1])
+
+
+def product(one, other):
+    return lowest(one[0] * other[0], one[1] * other[1])
+
+
+def common_bottom(amounts):
+    """The least whole number that all bottoms of these numbers divide."""
+    common = 1
+    for one in amounts:
+        common *= one[1] // common_divisor(common, one[1])
+    return common
+
+
+def in_units(one, bottom):
+    """How many times 1 parted by this bottom, which its own one divides, a number is."""
+    return one[0] * (bottom // one[1])
