@@ -82,6 +82,8 @@ class Numbers(unittest.TestCase):
     def test_one_unit_for_all(self):
         self.assertEqual(common_bottom([]), 1)
         self.assertEqual(common_bottom([(1, 4), (5, 6), (7, 1)]), 12)
+        self.assertEqual(common_bottom([(1, 4), (3, 4), (1, 2)]), 4)
+        self.assertEqual(common_bottom([(1, 999983), (1, 10 ** 6), (1, 999979)]), 999983 * 10 ** 6 * 999979)
         self.assertEqual([in_units(one, 12) for one in ((1, 4), (5, 6), (7, 1), (0, 1))], [3, 10, 84, 0])
 
 

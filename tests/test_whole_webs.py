@@ -5,12 +5,13 @@ import random
 import unittest
 
 from tests.helper import changed, check_refused, great_web, great_webs, lines_run, odd_things, pieces, plain_web
+from weblayers.cores import cores
 from weblayers.densest import bearing, densest, least_densest
 from weblayers.errors import NoWeb
 from weblayers.layers import layers, level_heights, level_laying
 from weblayers.strips import stripped
 
-ASKS = (densest, least_densest, bearing, layers, level_heights, level_laying, stripped)
+ASKS = (densest, least_densest, bearing, layers, level_heights, level_laying, stripped, cores)
 WEB = ((1, 1, 2), (((0,), 2), ((0, 1), 3), ((0, 1, 2), 1)))
 # A web of twelve places has 4095 parts, and looking at thirty ties for each takes more than this.
 MOST_LINES = 40000

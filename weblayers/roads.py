@@ -25,6 +25,7 @@ def are_steps(web, thing):
     starts = [start for tie, start, goal in thing]
     goals = [goal for tie, start, goal in thing]
     met = [starts[0], *goals]
+    # No place twice: so the two of each step are unlike, too.
     return starts[1:] == goals[:-1] and len(set(met)) == len(met)
 
 
@@ -35,7 +36,7 @@ def is_step(web, thing):
     if not is_whole_within(tie, 0, len(web[1]) - 1) or not is_whole(start) or not is_whole(goal):
         return False
     places, heavy = web[1][tie]
-    return start in places and goal in places and start != goal
+    return start in places and goal in places
 
 
 def gone(web, laying, roads):
