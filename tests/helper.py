@@ -13,6 +13,7 @@ from weblayers.errors import (
 REFUSALS = (
     NoWeb, NoPart, NoLaying, NoMeasure, NoRoad, NoSize, NoArrows, NoThread, NoNumber, NoText, NoCall, NoKept,
 )
+PAIRS = tuple(product(range(6), repeat=2))
 
 
 class Touchy:
@@ -342,3 +343,184 @@ def great_webs():
     yield ((1,) * 12, ())
     for web in rows():
         yield web
+
+
+def plain_arrows(thing):
+    """What arrows are, written a second time."""
+    if type(thing) is not tuple or len(thing) != 2 or not plain_whole(thing[0]) or thing[0] not in range(1, 7):
+        return False
+    many, ways = thing
+    if type(ways) is not tuple or len(ways) not in range(21):
+        return False
+    for way in ways:
+        if type(way) is not tuple or len(way) != 3 or not all(map(plain_whole, way)):
+            return False
+        if way[0] not in range(many) or way[1] not in range(many) or way[2] not in range(1, 10 ** 6 + 1):
+            return False
+    return list(ways) == sorted(ways) and len(set(way[:2] for way in ways)) == len(ways)
+
+
+def plain_split(arrows, thing):
+    """A split is a laying of each way on its two ends."""
+    return plain_laying(((1,), tuple(((0, 1), way[2]) for way in arrows[1])), thing)
+
+
+def most_square_share(arrows):
+    """The greatest square share, by going through all sets of places."""
+    many, ways = arrows
+    most = Fraction(0)
+    sets = all_parts(many)
+    for ones in sets:
+        comes = [sum(way[2] for way in ways if way[0] in ones and way[1] == place) for place in range(many)]
+        for others in sets:
+            flows = sum(comes[place] for place in others)
+            most = max(most, Fraction(flows * flows, len(ones) * len(others)))
+    return most
+
+
+def some_arrows(chance, many, most_ways=20, most_weight=10 ** 6):
+    pairs = list(product(range(many), repeat=2))
+    chosen = sorted(chance.sample(pairs, min(len(pairs), chance.randint(0, most_ways))))
+    return (many, tuple((start, goal, chance.randint(1, most_weight)) for start, goal in chosen))
+
+
+def great_arrows(chance, most_weight=10 ** 6):
+    """Six places and twenty ways."""
+    return (6, tuple((start, goal, chance.randint(1, most_weight)) for start, goal in sorted(chance.sample(PAIRS, 20))))
+
+
+def plain_road(web, thing):
+    """What a road is, written a second time."""
+    if type(thing) is not tuple or len(thing) != 2 or type(thing[0]) is not tuple or thing[0] == ():
+        return False
+    places = []
+    for step in thing[0]:
+        if type(step) is not tuple or len(step) != 3 or not all(map(plain_whole, step)):
+            return False
+        if step[0] not in range(len(web[1])) or not set(step[1:]) <= set(web[1][step[0]][0]):
+            return False
+        if places and places[-1] != step[1]:
+            return False
+        places = (places or [step[1]]) + [step[2]]
+    amount = thing[1]
+    if type(amount) is not tuple or len(amount) != 2 or not all(map(plain_whole, amount)) or min(amount) < 1:
+        return False
+    return len(set(places)) == len(places) and number(Fraction(*amount)) == amount
+
+
+def plain_gone(web, laying, roads):
+    """The laying behind these roads, or the number of the first that is none or can't be gone."""
+    lying = [dict(zip(tie[0], map(lambda one: Fraction(*one), amounts))) for tie, amounts in zip(web[1], laying)]
+    for at, road in enumerate(roads):
+        if not plain_road(web, road):
+            return at
+        for tie, start, goal in road[0]:
+            lying[tie][start] -= Fraction(*road[1])
+            lying[tie][goal] += Fraction(*road[1])
+            if lying[tie][start] < 0:
+                return at
+        now = tuple(tuple(number(row[place]) for place in tie[0]) for tie, row in zip(web[1], lying))
+        high = plain_heights(web, now)
+        if high[road[0][0][1]] < high[road[0][-1][2]]:
+            return at
+    return tuple(tuple(number(row[place]) for place in tie[0]) for tie, row in zip(web[1], lying))
+
+
+def some_road(chance, web):
+    """A road of the web, whether it can be gone or not; None where none was found."""
+    ties = [at for at, tie in enumerate(web[1]) if len(tie[0]) > 1]
+    if not ties:
+        return None
+    tie = chance.choice(ties)
+    here, goal = chance.sample(web[1][tie][0], 2)
+    steps, met = [(tie, here, goal)], [here, goal]
+    while chance.random() < 0.6:
+        onward = [
+            (at, met[-1], other) for at in ties if met[-1] in web[1][at][0] for other in web[1][at][0] if other not in met
+        ]
+        if not onward:
+            break
+        steps.append(chance.choice(onward))
+        met.append(steps[-1][2])
+    amount = Fraction(chance.randint(1, 12), chance.randint(1, 6))
+    return (tuple(steps), number(amount))
+
+
+def plain_cores(web):
+    """The core of each place and the greatest part that shows it, by going through all parts."""
+    parts = AllParts(web)
+    best = [(Fraction(-1), 0)] * parts.many
+    for bits in range(1, parts.whole + 1):
+        places = parts.part(bits)
+        least = min(
+            Fraction(parts.weights[bits] - parts.weights[bits ^ 1 << place], web[0][place]) for place in places
+        )
+        for place in places:
+            if least > best[place][0]:
+                best[place] = (least, 0)
+            if least == best[place][0]:
+                best[place] = (least, best[place][1] | bits)
+    return tuple(number(core) for core, bits in best), [parts.part(bits) for core, bits in best]
+
+
+def plain_with(parts, musts):
+    """The greatest share with the musts and the greatest part that has it, by going through all parts."""
+    within = sum(1 << place for place in musts)
+    sets = [bits for bits in range(1, parts.whole + 1) if bits & within == within]
+    most = max(Fraction(parts.weights[bits], parts.costs[bits]) for bits in sets)
+    best = [bits for bits in sets if parts.weights[bits] == most * parts.costs[bits]]
+    return most, parts.part(parts.greatest(best))
+
+
+def plain_heaviest(parts, size):
+    sized = {part: parts.weights[sum(1 << place for place in part)] for part in combinations(range(parts.many), size)}
+    most = max(sized.values())
+    return (most, tuple(sorted(part for part in sized if sized[part] == most)))
+
+
+def plain_thread(thing, many):
+    return plain_places(thing, many) and len(thing) <= 4
+
+
+def some_thread(chance, many):
+    return tuple(sorted(chance.sample(range(many), chance.randint(1, min(4, many)))))
+
+
+def plain_loads(many, laid):
+    """How many of the threads, pairs (thread, place), lie on each place."""
+    return [sum(place == here for thread, place in laid) for here in range(many)]
+
+
+def plain_reach(laid, start):
+    """All places to which chains lead from one, it among them."""
+    met = {start}
+    while True:
+        more = met.union(*(thread for thread, place in laid if place in met))
+        if more == met:
+            return met
+        met = more
+
+
+def plain_level_loom(many, laid):
+    """What level is of a loom, written a second time."""
+    loads = plain_loads(many, laid)
+    return all(loads[start] - loads[goal] < 2 for start in range(many) for goal in plain_reach(laid, start))
+
+
+def plain_chain(laid, thing):
+    """Whether a thing of any kind is a chain of the threads laid so, a dict of (thread, place) by number; () is one."""
+    if type(thing) is not tuple:
+        return False
+    here, places, numbers = None, [], []
+    for swap in thing:
+        if type(swap) is not tuple or len(swap) != 3 or not all(map(plain_whole, swap)):
+            return False
+        number, start, goal = swap
+        if number not in laid or laid[number][1] != start or goal not in laid[number][0]:
+            return False
+        if here not in (None, start):
+            return False
+        places = (places or [start]) + [goal]
+        numbers.append(number)
+        here = goal
+    return len(set(places)) == len(places) and len(set(numbers)) == len(numbers)

@@ -4,57 +4,13 @@ from fractions import Fraction
 from itertools import product
 
 from tests.helper import (
-    all_parts, changed, check_refused, check_steady, lines_run, number, odd_things, plain_laying, plain_places, plain_whole,
+    PAIRS, all_parts, changed, check_refused, check_steady, great_arrows, lines_run, most_square_share, number, odd_things,
+    plain_arrows, plain_places, plain_split, some_arrows,
 )
 from weblayers.arrows import flow, is_arrows, splits, square_share, thickest_flow
 from weblayers.errors import NoArrows, NoPart
 
 ARROWS = (3, ((0, 0, 1), (0, 1, 4), (0, 2, 4), (1, 2, 5), (2, 0, 7)))
-PAIRS = tuple(product(range(6), repeat=2))
-
-
-def plain_arrows(thing):
-    """What arrows are, written a second time."""
-    if type(thing) is not tuple or len(thing) != 2 or not plain_whole(thing[0]) or thing[0] not in range(1, 7):
-        return False
-    many, ways = thing
-    if type(ways) is not tuple or len(ways) not in range(21):
-        return False
-    for way in ways:
-        if type(way) is not tuple or len(way) != 3 or not all(map(plain_whole, way)):
-            return False
-        if way[0] not in range(many) or way[1] not in range(many) or way[2] not in range(1, 10 ** 6 + 1):
-            return False
-    return list(ways) == sorted(ways) and len(set(way[:2] for way in ways)) == len(ways)
-
-
-def plain_split(arrows, thing):
-    """A split is a laying of each way on its two ends."""
-    return plain_laying(((1,), tuple(((0, 1), way[2]) for way in arrows[1])), thing)
-
-
-def most_square_share(arrows):
-    """The greatest square share, by going through all sets of places."""
-    many, ways = arrows
-    most = Fraction(0)
-    sets = all_parts(many)
-    for ones in sets:
-        comes = [sum(way[2] for way in ways if way[0] in ones and way[1] == place) for place in range(many)]
-        for others in sets:
-            flows = sum(comes[place] for place in others)
-            most = max(most, Fraction(flows * flows, len(ones) * len(others)))
-    return most
-
-
-def some_arrows(chance, many, most_ways=20, most_weight=10 ** 6):
-    pairs = list(product(range(many), repeat=2))
-    chosen = sorted(chance.sample(pairs, min(len(pairs), chance.randint(0, most_ways))))
-    return (many, tuple((start, goal, chance.randint(1, most_weight)) for start, goal in chosen))
-
-
-def great_arrows(chance, most_weight=10 ** 6):
-    """Six places and twenty ways."""
-    return (6, tuple((start, goal, chance.randint(1, most_weight)) for start, goal in sorted(chance.sample(PAIRS, 20))))
 
 
 class WhatArrowsAre(unittest.TestCase):

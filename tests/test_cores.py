@@ -3,7 +3,7 @@ import unittest
 from fractions import Fraction
 
 from tests.helper import (
-    AllParts, check_refused, check_steady, great_web, great_webs, lines_run, number, odd_things, several_webs, tiny_webs,
+    check_refused, check_steady, great_web, great_webs, lines_run, odd_things, plain_cores, several_webs, tiny_webs,
 )
 from weblayers.cores import core_part, cores
 from weblayers.errors import NoPart, NoWeb
@@ -11,23 +11,6 @@ from weblayers.layers import level_heights
 from weblayers.webs import degree
 
 WEB = ((1, 1, 2), (((0,), 2), ((0, 1), 3), ((0, 1, 2), 1)))
-
-
-def plain_cores(web):
-    """The core of each place and the greatest part that shows it, by going through all parts."""
-    parts = AllParts(web)
-    best = [(Fraction(-1), 0)] * parts.many
-    for bits in range(1, parts.whole + 1):
-        places = parts.part(bits)
-        least = min(
-            Fraction(parts.weights[bits] - parts.weights[bits ^ 1 << place], web[0][place]) for place in places
-        )
-        for place in places:
-            if least > best[place][0]:
-                best[place] = (least, 0)
-            if least == best[place][0]:
-                best[place] = (least, best[place][1] | bits)
-    return tuple(number(core) for core, bits in best), [parts.part(bits) for core, bits in best]
 
 
 class Cores(unittest.TestCase):

@@ -58,6 +58,8 @@ def bound_names(tree):
             yield one.arg
         elif isinstance(one, ast.alias):
             yield one.asname or one.name
+        elif isinstance(one, (ast.MatchAs, ast.MatchStar)) and one.name is not None:
+            yield one.name
 
 
 class Language(unittest.TestCase):
@@ -124,6 +126,8 @@ class Language(unittest.TestCase):
                     self.assertNotIn(one.id, outside, path)
                 if isinstance(one, ast.arg):
                     self.assertNotIn(one.arg, outside, path)
+                if isinstance(one, ast.MatchAs):
+                    self.assertNotIn(one.name, outside, path)
 
     def test_builtins(self):
         for path, tree in trees():

@@ -4,7 +4,7 @@ from fractions import Fraction
 
 from tests.helper import (
     AllParts, all_parts, changed, check_refused, check_steady, great_web, great_webs, lines_run, odd_things, plain_heights,
-    plain_places, several_webs, some_web, tiny_webs,
+    plain_places, plain_with, several_webs, some_web, tiny_webs,
 )
 from weblayers.densest import densest
 from weblayers.errors import NoPart, NoWeb
@@ -13,15 +13,6 @@ from weblayers.musts import bearing_with, densest_with
 from weblayers.webs import share
 
 WEB = ((1, 1, 2), (((0, 1), 3), ((2,), 1)))
-
-
-def plain_with(parts, musts):
-    """The greatest share with the musts and the greatest part that has it, by going through all parts."""
-    within = sum(1 << place for place in musts)
-    sets = [bits for bits in range(1, parts.whole + 1) if bits & within == within]
-    most = max(Fraction(parts.weights[bits], parts.costs[bits]) for bits in sets)
-    best = [bits for bits in sets if parts.weights[bits] == most * parts.costs[bits]]
-    return most, parts.part(parts.greatest(best))
 
 
 class Musts(unittest.TestCase):

@@ -3,8 +3,8 @@ import unittest
 from fractions import Fraction
 
 from tests.helper import (
-    changed, check_refused, check_steady, great_web, great_webs, number, odd_things, one_sided_layings, plain_heights,
-    plain_level, plain_whole, refusal_of, several_webs, some_laying, some_measure, some_web, tiny_webs,
+    changed, check_refused, check_steady, great_web, great_webs, number, odd_things, one_sided_layings, plain_gone,
+    plain_level, plain_road, refusal_of, several_webs, some_laying, some_measure, some_road, some_web, tiny_webs,
 )
 from weblayers.errors import NoLaying, NoRoad, NoWeb
 from weblayers.layers import level_heights, level_laying
@@ -19,63 +19,6 @@ ROAD = (((1, 0, 1), (2, 1, 2)), (1, 4))
 FOUR = ((1, 1, 1, 1), (((0,), 9), ((0, 1, 2, 3), 4), ((1, 2), 2)))
 FOUR_LAYING = (((9, 1),), ((3, 1), (0, 1), (1, 1), (0, 1)), ((2, 1), (0, 1)))
 BARE = ((4, 1), ())
-
-
-def plain_road(web, thing):
-    """What a road is, written a second time."""
-    if type(thing) is not tuple or len(thing) != 2 or type(thing[0]) is not tuple or thing[0] == ():
-        return False
-    places = []
-    for step in thing[0]:
-        if type(step) is not tuple or len(step) != 3 or not all(map(plain_whole, step)):
-            return False
-        if step[0] not in range(len(web[1])) or not set(step[1:]) <= set(web[1][step[0]][0]):
-            return False
-        if places and places[-1] != step[1]:
-            return False
-        places = (places or [step[1]]) + [step[2]]
-    amount = thing[1]
-    if type(amount) is not tuple or len(amount) != 2 or not all(map(plain_whole, amount)) or min(amount) < 1:
-        return False
-    return len(set(places)) == len(places) and number(Fraction(*amount)) == amount
-
-
-def plain_gone(web, laying, roads):
-    """The laying behind these roads, or the number of the first that is none or can't be gone."""
-    lying = [dict(zip(tie[0], map(lambda one: Fraction(*one), amounts))) for tie, amounts in zip(web[1], laying)]
-    for at, road in enumerate(roads):
-        if not plain_road(web, road):
-            return at
-        for tie, start, goal in road[0]:
-            lying[tie][start] -= Fraction(*road[1])
-            lying[tie][goal] += Fraction(*road[1])
-            if lying[tie][start] < 0:
-                return at
-        now = tuple(tuple(number(row[place]) for place in tie[0]) for tie, row in zip(web[1], lying))
-        high = plain_heights(web, now)
-        if high[road[0][0][1]] < high[road[0][-1][2]]:
-            return at
-    return tuple(tuple(number(row[place]) for place in tie[0]) for tie, row in zip(web[1], lying))
-
-
-def some_road(chance, web):
-    """A road of the web, whether it can be gone or not; None where none was found."""
-    ties = [at for at, tie in enumerate(web[1]) if len(tie[0]) > 1]
-    if not ties:
-        return None
-    tie = chance.choice(ties)
-    here, goal = chance.sample(web[1][tie][0], 2)
-    steps, met = [(tie, here, goal)], [here, goal]
-    while chance.random() < 0.6:
-        onward = [
-            (at, met[-1], other) for at in ties if met[-1] in web[1][at][0] for other in web[1][at][0] if other not in met
-        ]
-        if not onward:
-            break
-        steps.append(chance.choice(onward))
-        met.append(steps[-1][2])
-    amount = Fraction(chance.randint(1, 12), chance.randint(1, 6))
-    return (tuple(steps), number(amount))
 
 
 class Gone(unittest.TestCase):

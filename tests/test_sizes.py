@@ -4,8 +4,8 @@ from fractions import Fraction
 from itertools import combinations
 
 from tests.helper import (
-    AllParts, all_parts, check_refused, check_steady, great_web, great_webs, number, odd_things, several_webs, some_web,
-    tiny_webs,
+    AllParts, all_parts, check_refused, check_steady, great_web, great_webs, number, odd_things, plain_heaviest,
+    several_webs, some_web, tiny_webs,
 )
 from weblayers.densest import densest, least_densest
 from weblayers.errors import NoSize, NoWeb
@@ -15,12 +15,6 @@ from weblayers.webs import share
 
 # Level heights 5/2, 5/2, 1/2.
 WEB = ((1, 1, 2), (((0,), 2), ((0, 1), 3), ((0, 1, 2), 1)))
-
-
-def plain_heaviest(parts, size):
-    sized = {part: parts.weights[sum(1 << place for place in part)] for part in combinations(range(parts.many), size)}
-    most = max(sized.values())
-    return (most, tuple(sorted(part for part in sized if sized[part] == most)))
 
 
 def plain_sized(parts, least, most):

@@ -23,6 +23,12 @@ def trace(starts, onward, is_end):
     return came, None
 
 
+def trace_all(starts, onward):
+    """Where chains lead from these places, as trace tells it, without an end."""
+    came, end = trace(starts, onward, lambda place: False)
+    return came
+
+
 def steps_to(came, end):
     """The steps (tie, from, to) by which a trace came to this place."""
     steps = []

@@ -1,9 +1,8 @@
 """Cores: how dense the parts are that a place can be in, by the degrees of all of their places."""
 
-from weblayers.errors import NoPart
-from weblayers.numbers import is_less, is_whole_within
+from weblayers.numbers import is_less
 from weblayers.strips import stripped
-from weblayers.webs import need_web
+from weblayers.webs import need_place, need_web
 
 
 def cores(web):
@@ -22,7 +21,6 @@ def cores(web):
 def core_part(web, place):
     """The greatest part in which each place's degree is at least the core of this place times its cost."""
     need_web(web)
-    if not is_whole_within(place, 0, len(web[0]) - 1):
-        raise NoPart("no place of the web")
+    need_place(web, place)
     told = cores(web)
     return tuple(other for other in range(len(told)) if not is_less(told[other], told[place]))

@@ -38,9 +38,12 @@ def is_tie(thing, many):
     if not isinstance(thing, tuple) or len(thing) != 2:
         return False
     places, heavy = thing
-    if not are_places(places, many) or len(places) > MOST_PLACES_OF_TIE:
-        return False
-    return is_whole_within(heavy, 1, MOST_WEIGHT)
+    return are_tied_places(places, many) and is_whole_within(heavy, 1, MOST_WEIGHT)
+
+
+def are_tied_places(thing, many):
+    """Whether a thing of any kind is as many unlike places as a tie or a thread can have, rising."""
+    return are_places(thing, many) and len(thing) <= MOST_PLACES_OF_TIE
 
 
 def are_places(thing, many):
@@ -69,6 +72,16 @@ def is_part(web, thing):
 def need_part(web, thing):
     if not is_part(web, thing):
         raise NoPart("no part of the web")
+
+
+def is_place(web, thing):
+    """Whether a thing of any kind is a place of the web."""
+    return is_whole_within(thing, 0, len(web[0]) - 1)
+
+
+def need_place(web, thing):
+    if not is_place(web, thing):
+        raise NoPart("no place of the web")
 
 
 def ties_within(web, part):
