@@ -9,6 +9,7 @@ from itertools import combinations, product
 from weblayers.errors import (
     NoArrows, NoCall, NoKept, NoLaying, NoMeasure, NoNumber, NoPart, NoRoad, NoSize, NoText, NoThread, NoWeb, WebError,
 )
+from weblayers.looms import Loom
 
 REFUSALS = (
     NoWeb, NoPart, NoLaying, NoMeasure, NoRoad, NoSize, NoArrows, NoThread, NoNumber, NoText, NoCall, NoKept,
@@ -168,15 +169,15 @@ def pieces(thing):
             yield from pieces(one)
 
 
-def check_steady(test, ask, *told):
-    """Asked again the answer is the same, of tuples and whole numbers alone, and nothing handed in is changed."""
+def check_steady(test, ask, *told, kinds=(tuple, int)):
+    """Asked again the answer is the same, of these kinds alone, and nothing handed in is changed."""
     kept = copy.deepcopy(told)
     first = ask(*told)
     first_kept = copy.deepcopy(first)
     for turn in range(3):
         test.assertEqual(ask(*copy.deepcopy(kept)), first_kept)
     test.assertEqual((ask(*told), first, told), (first_kept, first_kept, kept))
-    test.assertLessEqual({type(one) for one in pieces(first)}, {tuple, int})
+    test.assertLessEqual({type(one) for one in pieces(first)}, set(kinds))
 
 
 def lines_run(ask, *told):
@@ -524,3 +525,15 @@ def plain_chain(laid, thing):
         numbers.append(number)
         here = goal
     return len(set(places)) == len(places) and len(set(numbers)) == len(numbers)
+
+
+def busy_loom(chance, many, deeds, takes=0.4):
+    """A loom behind so many deeds, made by a random.Random."""
+    loom = Loom(many)
+    for deed in range(deeds):
+        lying = loom.threads()
+        if lying and (len(lying) == 30 or chance.random() < takes):
+            loom.take(chance.choice(lying)[0])
+        else:
+            loom.put(some_thread(chance, many))
+    return loom
